@@ -1,0 +1,93 @@
+"""The plainest of the rules that the package's code keeps to; what they can't show is for a reader."""
+
+import ast
+import pathlib
+import re
+import unittest
+
+import touchtree
+
+FOLDER = pathlib.Path(touchtree.__file__).parent
+OUTSIDE = (
+    ast.With, ast.Match, ast.Delete, ast.Global, ast.Nonlocal, ast.Assert, ast.Yield, ast.YieldFrom, ast.Await,
+    ast.AsyncFunctionDef, ast.AsyncFor, ast.AsyncWith, ast.SetComp, ast.DictComp, ast.GeneratorExp,
+    ast.NamedExpr, ast.Starred, ast.Div, ast.Import,
+)
+OWN_NAMES = """len range enumerate zip min max sum abs sorted reversed int str bool list tuple dict set frozenset
+isinstance ord repr any all divmod Exception ValueError KeyError IndexError LookupError ZeroDivisionError
+ArithmeticError OverflowError RuntimeError NotImplementedError StopIteration""".split()
+WORDS = re.compile(r"\b(type|typing|enum|Enum|Flag|Generic|Protocol|ABC|namedtuple|NamedTuple|TypedDict)\b")
+
+
+def bound_names(tree):
+    """All names that the file itself gives a meaning."""
+    names = set()
+    for node in ast.walk(tree):
+        if isinstance(node, (ast.FunctionDef, ast.ClassDef)):
+            names.add(node.name)
+        elif isinstance(node, ast.arg):
+            names.add(node.arg)
+        elif isinstance(node, ast.alias):
+            names.add(node.name)
+        elif isinstance(node, ast.Name) and isinstance(node.ctx, ast.Store):
+            names.add(node.id)
+        elif isinstance(node, ast.ExceptHandler) and node.name:
+            names.add(node.name)
+    return names
+
+
+def each_file():
+    texts = [(path.name, path.read_text(encoding="utf-8")) for path in sorted(FOLDER.glob("*.py"))]
+    return [(name, text, ast.parse(text)) for name, text in texts]
+
+
+class LanguageTest(unittest.TestCase):
+    def test_files_lines_and_signs(self):
+        for file, text, tree in each_file():
+            with self.subTest(file):
+                self.assertRegex(text, r"\A[ -~\n]*\Z")
+                self.assertLessEqual(len(text.splitlines()), 400)
+                self.assertLessEqual(max(map(len, text.splitlines()), default=0), 120)
+                self.assertIsNone(WORDS.search(text))
+
+    def test_functions_are_short_and_plain(self):
+        for file, text, tree in each_file():
+            with self.subTest(file):
+                for node in ast.walk(tree):
+                    if isinstance(node, ast.FunctionDef):
+                        self.assertLessEqual(node.end_lineno - node.lineno + 1, 40, node.name)
+                        self.assertEqual(node.decorator_list, [], node.name)
+                        self.assertFalse(node.args.vararg or node.args.kwarg or node.args.kwonlyargs, node.name)
+
+    def test_nothing_outside_the_language(self):
+        for file, text, tree in each_file():
+            with self.subTest(file):
+                for node in ast.walk(tree):
+                    self.assertNotIsInstance(node, OUTSIDE)
+                    if isinstance(node, ast.Constant):
+                        self.assertNotIsInstance(node.value, (float, bytes, complex))
+                    if isinstance(node, ast.Assign):
+                        self.assertEqual(len(node.targets), 1)
+
+    def test_imports_are_the_packages_own(self):
+        for file, text, tree in each_file():
+            with self.subTest(file):
+                for node in ast.walk(tree):
+                    if isinstance(node, ast.ImportFrom) and node.module != "__future__":
+                        self.assertEqual(node.level, 0)
+                        self.assertTrue(node.module.startswith("touchtree."), node.module)
+
+    def test_names(self):
+        for file, text, tree in each_file():
+            with self.subTest(file):
+                bound = bound_names(tree)
+                for name in bound:
+                    self.assertTrue(not name.startswith("_") or name.endswith("__"), name)
+                    self.assertNotIn(name, OWN_NAMES)
+                for node in ast.walk(tree):
+                    if isinstance(node, ast.Name):
+                        self.assertTrue(node.id in bound or node.id in OWN_NAMES, node.id)
+
+
+if __name__ == "__main__":
+    unittest.main()

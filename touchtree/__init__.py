@@ -1,0 +1,1 @@
+"""Touchtree: boxes over boxes, and which of them hears a touch."""
