@@ -41,6 +41,26 @@ def each_file():
     return [(name, text, ast.parse(text)) for name, text in texts]
 
 
+def values_of(tree):
+    """All names that objects of the file's classes keep something under."""
+    return {node.attr for node in ast.walk(tree)
+            if isinstance(node, ast.Attribute) and isinstance(node.ctx, ast.Store)}
+
+
+def methods_of(tree):
+    return {node.name for one in ast.walk(tree) if isinstance(one, ast.ClassDef)
+            for node in one.body if isinstance(node, ast.FunctionDef)}
+
+
+def locals_of(tree):
+    """All parameters, and all names that are given a value within a function."""
+    names = set()
+    for one in ast.walk(tree):
+        if isinstance(one, ast.FunctionDef):
+            names |= bound_names(one) - {one.name}
+    return names
+
+
 class LanguageTest(unittest.TestCase):
     def test_files_lines_and_signs(self):
         for file, text, tree in each_file():
@@ -87,6 +107,21 @@ class LanguageTest(unittest.TestCase):
                 for node in ast.walk(tree):
                     if isinstance(node, ast.Name):
                         self.assertTrue(node.id in bound or node.id in OWN_NAMES, node.id)
+
+    def test_no_local_is_called_like_an_import_or_a_class(self):
+        for file, text, tree in each_file():
+            with self.subTest(file):
+                taken = {node.name for node in ast.walk(tree) if isinstance(node, (ast.alias, ast.ClassDef))}
+                self.assertEqual(locals_of(tree) & taken, set())
+
+    def test_no_name_is_a_method_here_and_a_value_there(self):
+        methods, values = set(), set()
+        for file, text, tree in each_file():
+            methods |= methods_of(tree)
+            values |= values_of(tree)
+        self.assertEqual(methods & values, set())
+        self.assertIn("call", methods)
+        self.assertIn("scene", values)
 
 
 if __name__ == "__main__":
