@@ -52,6 +52,19 @@ def methods_of(tree):
             for node in one.body if isinstance(node, ast.FunctionDef)}
 
 
+def givings_of(tree):
+    """All places where an object is given a value: what stands left of the dot."""
+    return [node.value for node in ast.walk(tree)
+            if isinstance(node, ast.Attribute) and isinstance(node.ctx, ast.Store)]
+
+
+def top_names(tree):
+    """The imports of a file, and all functions, classes and values of its top."""
+    names = {node.name for node in tree.body if isinstance(node, (ast.FunctionDef, ast.ClassDef))}
+    names |= {node.name for node in ast.walk(tree) if isinstance(node, ast.alias)}
+    return names | {target.id for node in tree.body if isinstance(node, ast.Assign) for target in node.targets}
+
+
 def locals_of(tree):
     """All parameters, and all names that are given a value within a function."""
     names = set()
@@ -122,6 +135,17 @@ class LanguageTest(unittest.TestCase):
         self.assertEqual(methods & values, set())
         self.assertIn("call", methods)
         self.assertIn("scene", values)
+
+    def test_values_are_given_through_a_local_name(self):
+        seen = 0
+        for file, text, tree in each_file():
+            with self.subTest(file):
+                for giver in givings_of(tree):
+                    seen += 1
+                    self.assertIsInstance(giver, ast.Name, f"row {giver.lineno}")
+                    self.assertIn(giver.id, locals_of(tree), f"row {giver.lineno}")
+                    self.assertNotIn(giver.id, top_names(tree), f"row {giver.lineno}")
+        self.assertGreater(seen, 0)
 
 
 if __name__ == "__main__":

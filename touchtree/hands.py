@@ -114,10 +114,12 @@ class Hands:
 
     def hold(self, hand, name):
         box_of(self.scene, name)
-        self.hand_of(hand).held_by = name
+        one = self.hand_of(hand)
+        one.held_by = name
 
     def free(self, hand):
-        self.hand_of(hand).held_by = None
+        one = self.hand_of(hand)
+        one.held_by = None
 
     def holder(self, hand):
         return self.hand_of(hand).held_by
