@@ -39,11 +39,20 @@ def stepped(seed):
         bound = yield (state >> 8) % bound
 
 
-def scene_of(seed):
-    """A scene of 0 to 12 boxes that often overlap, nest, cut off, hide and let by."""
+def numbers_below(seed):
+    """A function that tells a number below a bound, another one each time, the same ones for the same seed."""
     numbers = stepped(seed)
     next(numbers)
-    below = numbers.send
+    return numbers.send
+
+
+def name_in(below_of, scene):
+    return scene[below_of(len(scene))][0]
+
+
+def scene_of(seed):
+    """A scene of 0 to 12 boxes that often overlap, nest, cut off, hide and let by."""
+    below = numbers_below(seed)
     names, boxes = [], []
     for k in range(below(13)):
         around = names[below(k)] if k and below(5) > 1 else ""
@@ -56,6 +65,24 @@ def scene_of(seed):
 
 def many_scenes(count):
     return [scene_of(seed) for seed in range(1, count + 1)]
+
+
+def changed(below_of, scene):
+    """Another scene, with a box moved, marked otherwise, put to the end, taken away with all in it, or one more."""
+    spare = [name for name in ("new", "nn", "q") if name not in [one[0] for one in scene]]
+    if not scene or below_of(5) == 0 and len(scene) < 12 and spare:
+        around = name_in(below_of, scene) if scene and below_of(2) else ""
+        return scene + (box(spare[0], around, below_of(9) - 3, below_of(9) - 3, marks=("", "f", "cf")[below_of(3)]),)
+    name = name_in(below_of, scene)
+    inner = Canvas(scene).inner(name)
+    others = tuple(one for one in scene if one[0] not in inner)
+    ways = (
+        others,
+        others + tuple(one for one in scene if one[0] in inner),
+        tuple(one[:6] + (("", "f", "h", "fh", "fl")[below_of(5)],) if one[0] == name else one for one in scene),
+        tuple(one[:2] + (below_of(9) - 3, below_of(9) - 3) + one[4:] if one[0] == name else one for one in scene),
+    )
+    return ways[below_of(4)]
 
 
 class Canvas:

@@ -2,7 +2,7 @@
 
 import unittest
 
-from samples import FAMILY, chain_of, many_scenes, stepped
+from samples import FAMILY, chain_of, many_scenes, name_in, numbers_below
 from touchtree.halls import Hall
 from touchtree.hands import Hands
 from touchtree.hits import hit_path
@@ -11,16 +11,6 @@ from touchtree.scenes import below, cut, has_box, marked, path_of, put_at, raise
 
 SCENES = [scene for scene in many_scenes(60) if scene] + [FAMILY, chain_of(12)]
 WORDS = ("tap", "key")
-
-
-def numbers_below(seed):
-    numbers = stepped(seed)
-    next(numbers)
-    return numbers.send
-
-
-def name_in(below_of, scene):
-    return scene[below_of(len(scene))][0]
 
 
 class Agenda:
